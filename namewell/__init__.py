@@ -1,0 +1,1 @@
+"""Namewell: a tree of names kept by many houses."""
