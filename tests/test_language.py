@@ -2,6 +2,7 @@
 and that they keep to those rules of the language (L1 to L28) that a walk over the code can see."""
 
 import ast
+import builtins
 import pathlib
 import re
 import unittest
@@ -28,6 +29,15 @@ METHODS = set("""
     items join keys ljust lower lstrip partition pop remove replace reverse rfind rjust rpartition rsplit rstrip
     setdefault split splitlines startswith strip update upper values zfill bit_length __init__
 """.split())
+# what may stand round zip, items and their like, beside a for
+WALKERS = ("list", "tuple", "dict", "sorted", "sum", "any", "all", "enumerate", "zip", "min", "max", "join")
+WALKED = ("zip", "enumerate", "reversed", "range", "items", "keys", "values")
+KEYWORDS = {"sorted": ("key", "reverse"), "min": ("key", "default"), "max": ("key", "default"), "sum": ("start",),
+            "enumerate": ("start",), "zip": ("strict",)}
+# names that are used nowhere, and what an object's value may be called of Python's own names
+UNUSED = ("register", "mro", "elements", "open", "input", "version_info", "with_traceback", "add_note")
+FREE_VALUES = ("count", "index", "title", "find", "get", "join", "lower", "upper", "split", "strip", "copy", "add")
+PYTHONS = {one for kind in (str, int, list, dict, set, bytes, tuple) for one in dir(kind)}
 WORDS = re.compile(
     r"\b(type|typing|typing_extensions|enum|Enum|IntEnum|StrEnum|Flag|IntFlag|Generic|Protocol|ABC|ABCMeta|namedtuple"
     r"|NamedTuple|TypedDict|TYPE_CHECKING|abstractmethod)\b|dataclass|overload|contextmanager")
@@ -67,6 +77,25 @@ def bound_names(tree):
         elif isinstance(node, ast.FunctionDef):
             names.append(node.name)
     return names
+
+
+def called(node):
+    """the name of what is called, of a function or a method"""
+    return node.func.id if isinstance(node.func, ast.Name) else getattr(node.func, "attr", None)
+
+
+def classes(tree):
+    return [node for node in ast.walk(tree) if isinstance(node, ast.ClassDef)]
+
+
+def own_methods():
+    return {part.name for tree in TREES.values() for node in classes(tree) for part in node.body
+            if isinstance(part, ast.FunctionDef)}
+
+
+def own_values():
+    return {node.attr for tree in TREES.values() for node in ast.walk(tree)
+            if isinstance(node, ast.Attribute) and isinstance(node.ctx, ast.Store)}
 
 
 class LanguageTest(unittest.TestCase):
@@ -179,13 +208,80 @@ class LanguageTest(unittest.TestCase):
                         self.assertTrue(node.id in bound or node.id in BUILT_IN, node.id)
 
     def test_methods(self):
-        own = {
-            part.name for tree in TREES.values() for node in ast.walk(tree) if isinstance(node, ast.ClassDef)
-            for part in node.body if isinstance(part, ast.FunctionDef)
-        }
+        own = own_methods()
         for place, node in self.each_node():
             if isinstance(node, ast.Call) and isinstance(node.func, ast.Attribute):
                 self.assertIn(node.func.attr, METHODS | own, place)
+
+    def test_methods_are_called_where_they_stand(self):
+        for place, node in self.each_node():
+            here = [part for part in ast.iter_child_nodes(node) if isinstance(part, ast.Attribute)]
+            for part in here:
+                if part.attr in METHODS | own_methods():
+                    as_key = isinstance(node, ast.keyword) and node.arg == "key"
+                    self.assertTrue(as_key or isinstance(node, ast.Call) and part is node.func, place)
+
+    def test_no_name_is_a_method_and_a_value(self):
+        self.assertEqual(own_methods() & own_values(), set())
+        for name in own_values():
+            self.assertTrue(name in FREE_VALUES or name not in PYTHONS, name)
+        for name in own_methods():
+            self.assertTrue(name in METHODS | {"add", "discard"} or name not in PYTHONS, name)
+        for tree in TREES.values():
+            for node in classes(tree):
+                self.assertIn(node, tree.body)
+                names = [part.name for part in node.body if isinstance(part, ast.FunctionDef)]
+                self.assertEqual(len(names), len(set(names)), node.name)
+
+    def test_names_that_are_not_used(self):
+        for place, node in self.each_node():
+            self.assertNotIn(getattr(node, "attr", None), UNUSED, place)
+            self.assertNotIn(getattr(node, "id", None), UNUSED, place)
+
+    def test_locals_are_called_like_nothing_else(self):
+        for module, tree in TREES.items():
+            taken = {alias.name for node in draws(tree) for alias in node.names} | {node.name for node in classes(tree)}
+            for node in ast.walk(tree):
+                name = getattr(node, "arg", None) if isinstance(node, ast.arg) else None
+                if isinstance(node, ast.Name) and isinstance(node.ctx, ast.Store):
+                    name = node.id
+                if name is not None:
+                    self.assertNotIn(name, taken | set(dir(builtins)), f"{module}, line {node.lineno}")
+
+    def test_calls_by_themselves(self):
+        for module, tree in TREES.items():
+            for node in ast.walk(tree):
+                if isinstance(node, ast.Expr) and node is not tree.body[0]:
+                    self.assertIsInstance(node.value, ast.Call, f"{module}, line {node.lineno}")
+
+    def test_walked_on_the_spot(self):
+        for place, node in self.each_node():
+            for field, part in ast.iter_fields(node):
+                for one in part if isinstance(part, list) else [part]:
+                    if isinstance(one, ast.Call) and called(one) in WALKED:
+                        walks = field == "iter" or isinstance(node, ast.Call) and called(node) in WALKERS
+                        self.assertTrue(walks, place)
+
+    def test_sets_are_not_kept(self):
+        for place, node in self.each_node():
+            for part in ast.iter_child_nodes(node):
+                if isinstance(part, ast.Call) and called(part) in ("set", "frozenset") or isinstance(part, ast.Set):
+                    beside = isinstance(node, (ast.Compare, ast.BinOp))
+                    self.assertTrue(beside or isinstance(node, ast.Call) and called(node) in ("sorted", "len"), place)
+
+    def test_keywords_and_keys(self):
+        for place, node in self.each_node():
+            if isinstance(node, ast.Call):
+                for one in node.keywords:
+                    self.assertIn(one.arg, KEYWORDS.get(called(node), ()), place)
+
+    def test_errors_are_made_on_the_spot(self):
+        for place, node in self.each_node():
+            if isinstance(node, ast.Raise):
+                self.assertIsInstance(node.exc, ast.Call, place)
+            elif isinstance(node, ast.ExceptHandler):
+                self.assertIsInstance(node.type, ast.Name, place)
+                self.assertNotIn(node.type.id, ("Exception", "TypeError", "ValueError", "LookupError"), place)
 
 
 if __name__ == "__main__":
