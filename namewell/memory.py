@@ -2,7 +2,7 @@
 
 from namewell.names import above
 from namewell.rows import DOWN, ELSE
-from namewell.told import NONE
+from namewell.told import DOOR, NONE, ROWS
 
 # The first words of keys.
 ASKED_KEY = "asked"
@@ -25,11 +25,19 @@ def copied(ground):
     return ground[:5] + (tuple(reply),)
 
 
+# The doors that a ground tells, by which a door may be found.
+def doors_in(ground):
+    reply = ground[5]
+    return reply[3] if reply[0] == DOWN else reply[1]
+
+
 class Memory:
     def __init__(self):
         # by its key, of each ground: itself, the keys on which it rests, its last turn, its number
         self.entries = {}
         self.numbered = 0
+        # no ground's last turn lies ahead of this one; None where nothing was kept
+        self.soonest = None
 
     def keep(self, ground, rests):
         turn = ground[0]
@@ -37,9 +45,10 @@ class Memory:
         lasts = [self.until(rest, turn) for rest in rests]
         if None in lasts or self.until(key, turn) is not None:
             return
-        life = ground[5][-1]
+        last = min([turn + ground[5][-1]] + lasts)
         self.numbered += 1
-        self.entries[key] = (copied(ground), list(rests), min([turn + life] + lasts), self.numbered)
+        self.entries[key] = (copied(ground), list(rests), last, self.numbered)
+        self.soonest = last if self.soonest is None else min(self.soonest, last)
 
     def until(self, key, turn):
         if key not in self.entries or self.entries[key][2] < turn:
@@ -59,6 +68,32 @@ class Memory:
     def handed(self, N, turn):
         return self.first_of([(CUT_KEY, name) for name in reversed(above(N))], turn)
 
+    # Of which top a name is to be asked about.
+    def top_for(self, name, turn):
+        handed = self.handed(name, turn)
+        return () if handed is None else handed[5][1]
+
+    # The grounds by which the door behind a cut is found, the last of them telling it; none where it is not.
+    def entrance(self, down, turn):
+        if doors_in(down) != []:
+            return [down]
+        way = self.way_to_rows(down[5][2], DOOR, turn)
+        return [down] + way if way != [] else []
+
+    def way_to_rows(self, name, kind, turn):
+        way = []
+        met = {}
+        while name not in met:
+            met[name] = True
+            found = self.known(name, kind, turn)
+            if found is None:
+                return []
+            way.append(found)
+            if found[5][0] != ELSE:
+                return way if found[5][0] == ROWS else []
+            name = found[5][1]
+        return []
+
     def first_of(self, keys, turn):
         for key in keys:
             if self.until(key, turn) is not None:
@@ -66,13 +101,18 @@ class Memory:
         return None
 
     def forget(self, turn):
+        # mostly there is nothing to let go, and very much to look through
+        if self.soonest is None or turn <= self.soonest:
+            return 0
         gone = [key for key in self.entries if self.until(key, turn) is None]
         for key in gone:
             self.entries.pop(key)
+        self.soonest = min([entry[2] for entry in self.entries.values()], default=None)
         return len(gone)
 
     def clear(self):
         self.entries = {}
+        self.soonest = None
 
     def many(self):
         return len(self.entries)

@@ -3,7 +3,7 @@ import random
 import unittest
 
 from namewell.memory import Memory, key_of
-from tests.worlds import KINDS, arguments, name, own_lists, some_name, spoil
+from tests.worlds import KINDS, PlainMemory, arguments, name, own_lists, some_name, spoil
 
 CUT = ("cut", ("n",))
 
@@ -26,63 +26,6 @@ def other(turn, text, life, to):
 
 def down(turn, text, life, *doors):
     return ground(turn, "x." + text, "text", ("down", name(text), name("h." + text), list(doors), life))
-
-
-class PlainMemory:
-    """[25] to [28], word by word: all that was ever kept, the newest last"""
-
-    def __init__(self):
-        self.all = []
-
-    def holding(self, key, turn):
-        found = [one for one in self.all if one[0] == key and one[3] >= turn]
-        return found[0] if found else None
-
-    def keep(self, given, rests):
-        turn = given[0]
-        key = key_of(given)
-        under = [self.holding(rest, turn) for rest in rests]
-        if self.holding(key, turn) or None in under:
-            return
-        until = min([turn + given[5][-1]] + [one[3] for one in under])
-        self.all = [one for one in self.all if one[0] != key]
-        self.all.append((key, copy.deepcopy(given), list(rests), until))
-
-    def known(self, question, kind, turn):
-        for key in (("asked", question, kind), ("name", question)):
-            if self.holding(key, turn):
-                return self.holding(key, turn)[1]
-        found = [one for one in self.all if one[3] >= turn and one[0][0] == "name" and one[1][5][0] == "none"]
-        wider = [one for one in found if len(one[0][1]) < len(question) and question[:len(one[0][1])] == one[0][1]]
-        return max(wider, key=lambda one: len(one[0][1]))[1] if wider else None
-
-    def handed(self, question, turn):
-        found = [one for one in self.all if one[3] >= turn and one[0][0] == "cut"]
-        wider = [one for one in found if question[:len(one[0][1])] == one[0][1]]
-        return max(wider, key=lambda one: len(one[0][1]))[1] if wider else None
-
-    def until(self, key, turn):
-        found = self.holding(key, turn)
-        return found[3] if found else None
-
-    def forget(self, turn):
-        many = len(self.all)
-        self.all = [one for one in self.all if one[3] >= turn]
-        return many - len(self.all)
-
-    def clear(self):
-        self.all = []
-
-    def many(self):
-        return len(self.all)
-
-    def grounds(self, keys):
-        reached = set(keys)
-        for step in self.all:
-            for one in self.all:
-                if one[0] in reached:
-                    reached |= set(one[2])
-        return [one[1] for one in self.all if one[0] in reached]
 
 
 class InterfaceTest(unittest.TestCase):

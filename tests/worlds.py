@@ -2,7 +2,10 @@
 
 import copy
 import inspect
+import random
 
+from namewell.memory import key_of
+from namewell.world import World
 from namewell.zones import read_zone
 
 WORDS = ("a", "b", "c")
@@ -146,3 +149,120 @@ def some_houses(source):
         if source.randint(0, 19):
             houses.setdefault(doors[top], []).append((top, source.randint(0, 9), zones[top]))
     return houses
+
+
+def world_of(houses, root="r"):
+    """a world in which these zones were put, one by one"""
+    world = World(root)
+    for door in houses:
+        for zone in houses[door]:
+            world.put(door, zone)
+    return world
+
+
+def worlds_by_chance(many):
+    """a source of chance, houses and a world with them, as often as told"""
+    for seed in range(many):
+        source = random.Random(seed)
+        houses = some_houses(source)
+        yield source, houses, world_of(houses)
+
+
+def some_other_zone(source, zone, tops):
+    """a zone like this one, but a row or two"""
+    rows = {zone[0]: list(zone[2])}
+    if rows[zone[0]] and source.randint(0, 2):
+        rows[zone[0]].remove(source.choice(rows[zone[0]]))
+    for row in some_rows(source, zone[0], source.randint(0, 2)):
+        put_row(rows, zone[0], row)
+    beneath = [top for top in tops if len(top) > len(zone[0]) and top[:len(zone[0])] == zone[0]]
+    if beneath and source.randint(0, 1):
+        cut = source.choice(beneath)
+        house = source.choice((cut, source.choice(tops))) + some_name(source, 1)
+        put_row(rows, zone[0], (cut, source.randint(0, 9), "down", house))
+        if house[:len(zone[0])] == zone[0]:
+            put_row(rows, zone[0], (house, source.randint(0, 9), "door", source.choice(("r", "d0", "d1", "d2"))))
+    return (zone[0], source.randint(0, 9), rows[zone[0]])
+
+
+def some_change(source, world, first):
+    """one zone of the world dropped, put behind another door or put otherwise, or put as it was at first"""
+    places = sorted([(door, zone) for door, zones in world.houses().items() for zone in zones])
+    before = sorted([(door, zone) for door, zones in first.items() for zone in zones])
+    deed = source.randint(0, 9)
+    if before and (deed > 5 or not places):
+        world.put(*source.choice(before))
+    elif not places:
+        world.put("r", ((), source.randint(0, 9), some_rows(source, (), 5)))
+    elif deed == 0:
+        door, zone = source.choice(places)
+        world.drop(door, zone[0])
+    elif deed == 1:
+        world.put(source.choice(("r", "d0", "d1", "d2")), source.choice(places)[1])
+    else:
+        door, zone = source.choice(places)
+        world.put(door, some_other_zone(source, zone, sorted({one[0] for place, one in places})))
+
+
+def some_question(source, world):
+    """a name and a kind, mostly of a name that a zone of the world speaks of"""
+    zones = [zone for zones in world.houses().values() for zone in zones]
+    question = some_place(source, source.choice(zones)) if zones and source.randint(0, 9) else some_name(source)
+    return (question, source.choice(KINDS))
+
+
+class PlainMemory:
+    """[25] to [28], word by word: all that was ever kept, the newest last"""
+
+    def __init__(self):
+        self.all = []
+
+    def holding(self, key, turn):
+        found = [one for one in self.all if one[0] == key and one[3] >= turn]
+        return found[0] if found else None
+
+    def keep(self, given, rests):
+        turn = given[0]
+        key = key_of(given)
+        under = [self.holding(rest, turn) for rest in rests]
+        if self.holding(key, turn) or None in under:
+            return
+        until = min([turn + given[5][-1]] + [one[3] for one in under])
+        self.all = [one for one in self.all if one[0] != key]
+        self.all.append((key, copy.deepcopy(given), list(rests), until))
+
+    def known(self, question, kind, turn):
+        for key in (("asked", question, kind), ("name", question)):
+            if self.holding(key, turn):
+                return self.holding(key, turn)[1]
+        found = [one for one in self.all if one[3] >= turn and one[0][0] == "name" and one[1][5][0] == "none"]
+        wider = [one for one in found if len(one[0][1]) < len(question) and question[:len(one[0][1])] == one[0][1]]
+        return max(wider, key=lambda one: len(one[0][1]))[1] if wider else None
+
+    def handed(self, question, turn):
+        found = [one for one in self.all if one[3] >= turn and one[0][0] == "cut"]
+        wider = [one for one in found if question[:len(one[0][1])] == one[0][1]]
+        return max(wider, key=lambda one: len(one[0][1]))[1] if wider else None
+
+    def until(self, key, turn):
+        found = self.holding(key, turn)
+        return found[3] if found else None
+
+    def forget(self, turn):
+        many = len(self.all)
+        self.all = [one for one in self.all if one[3] >= turn]
+        return many - len(self.all)
+
+    def clear(self):
+        self.all = []
+
+    def many(self):
+        return len(self.all)
+
+    def grounds(self, keys):
+        reached = set(keys)
+        for step in self.all:
+            for one in self.all:
+                if one[0] in reached:
+                    reached |= set(one[2])
+        return [one[1] for one in self.all if one[0] in reached]
